@@ -19,3 +19,42 @@ func Take(b []byte) int {
 	}
 	return n
 }
+
+// Append puts a number that is not below 0 behind b, in so many bytes.
+func Append(b []byte, n, bytes int) []byte {
+	for i := range bytes {
+		b = append(b, byte(n>>(8*i)))
+	}
+	return b
+}
+
+// Cutter cuts numbers and bytes off the begin of bytes, as long as there are enough.
+type Cutter struct {
+	rest  []byte
+	short bool
+}
+
+// Cut is what cuts b, which it shares with the bytes that it hands out.
+func Cut(b []byte) *Cutter { return &Cutter{rest: b} }
+
+// Bytes cuts so many bytes off; nothing, if there are not so many.
+func (c *Cutter) Bytes(n int) []byte {
+	if c.short = c.short || n < 0 || n > len(c.rest); c.short {
+		return nil
+	}
+	b := c.rest[:n:n]
+	c.rest = c.rest[n:]
+	return b
+}
+
+// Number cuts a number of so many bytes off; 0, if there are not so many.
+func (c *Cutter) Number(bytes int) int {
+	n := 0
+	for i, b := range c.Bytes(bytes) {
+		n |= int(b) << (8 * i)
+	}
+	return n
+}
+
+// Short: were there once not enough bytes?
+func (c *Cutter) Short() bool { return c.short }
