@@ -1,13 +1,11 @@
 package btree
 
 import (
-	"maps"
 	"slices"
 
 	"waywiser/api"
 	"waywiser/little"
 	"waywiser/paged"
-	"waywiser/pool"
 )
 
 // Whatever changes a tree reads all that it needs first: a disk that is down lets nothing be done by halves.
@@ -92,7 +90,8 @@ func (t *Tree) rise(n node, beside entry) api.Errno {
 
 // drop takes a key away.
 func (t *Tree) drop(key []byte) api.Errno {
-	r := t.reader()
+	d := paged.Begin(t.pool)
+	r := reader{d}
 	way, there, e := r.way(t.root, key)
 	switch {
 	case e != api.OK:
@@ -105,43 +104,21 @@ func (t *Tree) drop(key []byte) api.Errno {
 	if e != api.OK {
 		return e
 	}
-	s := shrinking{r, t.pool.Room(), map[int]node{}, old}
+	for _, page := range old {
+		d.Give(page)
+	}
+	s := shrinking{r, d, t.pool.Room()}
 	if e := s.shrink(way, leaf.node.without(leaf.at)); e != api.OK {
 		return e
 	}
-	return s.done(t.pool)
+	return d.Do()
 }
 
-// shrinking is what is to be done with the pages of a tree that loses something.
+// shrinking is what is to become of the pages of a tree that loses something, as its reader reads them.
 type shrinking struct {
 	reader
+	draft *paged.Draft
 	room  int
-	holds map[int]node // what pages are to hold
-	gone  []int
-}
-
-// node tells what a page is to hold.
-func (s *shrinking) node(page int) (node, api.Errno) {
-	if n, is := s.holds[page]; is {
-		return n, api.OK
-	}
-	return s.reader.node(page)
-}
-
-// leave lets a page go.
-func (s *shrinking) leave(page int) {
-	delete(s.holds, page)
-	s.gone = append(s.gone, page)
-}
-
-// done does it.
-func (s *shrinking) done(p *pool.Pool) api.Errno {
-	for _, page := range slices.Sorted(maps.Keys(s.holds)) {
-		if e := p.Write(page, s.holds[page].bytes()); e != api.OK {
-			return e
-		}
-	}
-	return paged.Give(p, s.gone)
 }
 
 // shrink lets the last page of a way hold something that is less than there was: without entries it goes, and what has room on one page beside a neighbour goes there.
@@ -153,10 +130,10 @@ func (s *shrinking) shrink(way []step, n node) api.Errno {
 	}
 	above := way[last-1]
 	if len(n) == 0 {
-		s.leave(here.page)
+		s.draft.Give(here.page)
 		return s.shrink(way[:last], above.node.without(above.at))
 	}
-	s.holds[here.page] = n
+	s.draft.Write(here.page, n.bytes())
 	for _, at := range []int{above.at, above.at + 1} {
 		joined, e := s.join(above.node, at)
 		if e != api.OK {
@@ -188,8 +165,8 @@ func (s *shrinking) join(above node, at int) (bool, api.Errno) {
 	if node(both).size() > s.room {
 		return false, api.OK
 	}
-	s.holds[first] = both
-	s.leave(second)
+	s.draft.Write(first, node(both).bytes())
+	s.draft.Give(second)
 	return true, api.OK
 }
 
@@ -201,9 +178,9 @@ func (s *shrinking) sink(root int, n node) api.Errno {
 		if e != api.OK {
 			return e
 		}
-		s.leave(page)
+		s.draft.Give(page)
 		n = below
 	}
-	s.holds[root] = n
+	s.draft.Write(root, n.bytes())
 	return api.OK
 }

@@ -12,7 +12,7 @@ import (
 const linkBytes = childBytes
 
 // reader reads a tree's pages.
-type reader struct{ *paged.Reader }
+type reader struct{ paged.Loader }
 
 // step is a page on the way to a key: which of its entries has the key, or leads to it; in a leaf without the key, ahead of which one it would stand.
 type step struct {

@@ -2,6 +2,9 @@
 package paged
 
 import (
+	"maps"
+	"slices"
+
 	"waywiser/api"
 	"waywiser/pool"
 )
@@ -54,6 +57,11 @@ func Give(p *pool.Pool, pages []int) api.Errno {
 	return api.OK
 }
 
+// Loader tells the loads of a tree's pages.
+type Loader interface {
+	Load(page int) ([]byte, api.Errno)
+}
+
 // Reader reads pages of a tree, each at most once.
 type Reader struct {
 	pool *pool.Pool
@@ -74,4 +82,46 @@ func (r *Reader) Load(page int) ([]byte, api.Errno) {
 		return nil, api.ErrForm
 	}
 	return load, e
+}
+
+// Draft is what is to become of a tree's pages, once all is read that it hangs on: a disk that is down lets nothing be done by halves.
+type Draft struct {
+	reader *Reader
+	loads  map[int][]byte
+	gone   []int
+}
+
+// Begin is a draft in which all pages of a pool are as they are.
+func Begin(p *pool.Pool) *Draft { return &Draft{reader: Read(p), loads: map[int][]byte{}} }
+
+// Load tells the load that a page is to have, as a Reader does.
+func (d *Draft) Load(page int) ([]byte, api.Errno) {
+	if load, is := d.loads[page]; is {
+		return load, api.OK
+	}
+	return d.reader.Load(page)
+}
+
+// Write lets a page have a load, with 0 behind it.
+func (d *Draft) Write(page int, load []byte) {
+	whole := make([]byte, max(len(load), d.reader.pool.Room()))
+	copy(whole, load)
+	d.loads[page] = whole
+}
+
+// Give lets a page go.
+func (d *Draft) Give(page int) {
+	delete(d.loads, page)
+	d.gone = append(d.gone, page)
+}
+
+// Do does it to the pool.
+func (d *Draft) Do() api.Errno {
+	p := d.reader.pool
+	for _, page := range slices.Sorted(maps.Keys(d.loads)) {
+		if e := p.Write(page, d.loads[page]); e != api.OK {
+			return e
+		}
+	}
+	return Give(p, d.gone)
 }

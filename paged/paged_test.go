@@ -1,6 +1,7 @@
 package paged_test
 
 import (
+	"bytes"
 	"testing"
 
 	"waywiser/api"
@@ -77,5 +78,57 @@ func TestReader(t *testing.T) {
 	d.Flush()
 	if load, e := paged.Read(p).Load(page); load != nil || e != api.ErrDown {
 		t.Errorf("Load of a disk that is down: %v, %d", load, e)
+	}
+}
+
+func TestDraft(t *testing.T) {
+	p, _ := formatted(t)
+	for n := range byte(4) {
+		paged.Place(p, []byte{n})
+	}
+	d := paged.Begin(p)
+	load := []byte{70, 71}
+	d.Write(2, load)
+	load[1] = 9
+	d.Write(3, []byte{80})
+	d.Give(3)
+	d.Give(4)
+	for page, want := range map[int][]byte{1: {0, 0}, 2: {70, 71, 0}, 3: {2, 0}} {
+		if got, e := d.Load(page); e != api.OK || len(got) != p.Room() || !bytes.HasPrefix(got, want) {
+			t.Errorf("Load(%d): %v, %d", page, got[:3], e)
+		}
+	}
+	if load, e := p.Read(2); e != api.OK || load[0] != 1 || p.Taken() != 4 {
+		t.Errorf("ahead of Do: %v, %d; %d pages are taken", load[:2], e, p.Taken())
+	}
+	if e := d.Do(); e != api.OK {
+		t.Fatalf("Do: %d", e)
+	}
+	if load, e := p.Read(2); e != api.OK || !bytes.HasPrefix(load, []byte{70, 71, 0}) || p.Taken() != 2 {
+		t.Errorf("behind Do: %v, %d; %d pages are taken", load[:2], e, p.Taken())
+	}
+	for _, want := range []int{4, 3} { // what was given back last is taken first
+		if page, e := p.Take(); page != want || e != api.OK {
+			t.Errorf("Take: %d, %d, not %d", page, e, want)
+		}
+	}
+}
+
+func TestDraftThatCantBe(t *testing.T) {
+	p, _ := formatted(t)
+	page, _ := paged.Place(p, nil)
+	for want, change := range map[api.Errno]func(d *paged.Draft){
+		api.ErrNone: func(d *paged.Draft) { d.Write(page+1, nil) },
+		api.ErrSize: func(d *paged.Draft) { d.Write(page, make([]byte, p.Room()+1)) },
+		api.OK:      func(d *paged.Draft) { d.Write(page, make([]byte, p.Room())) },
+	} {
+		d := paged.Begin(p)
+		change(d)
+		if e := d.Do(); e != want {
+			t.Errorf("Do: %d, not %d", e, want)
+		}
+		if load, e := d.Load(page + 2); load != nil || e != api.ErrForm {
+			t.Errorf("Load of no page: %v, %d", load, e)
+		}
 	}
 }
