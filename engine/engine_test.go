@@ -700,7 +700,7 @@ func TestLongDocuments(t *testing.T) { // P25.1: a document that a change makes 
 }
 
 func TestFull(t *testing.T) { // P25.2: what tells ErrFull has done nothing
-	for _, sectors := range []int{24, 60, 200} {
+	for _, sectors := range []int{24, 60, 120} {
 		g, d := formatted(t, sectors, 512)
 		does(t, g, "{'create':'a'}", "{'create':'b'}")
 		do(g, "{'index':'a','kind':'text','path':'t'}")
